@@ -1,0 +1,1 @@
+"""Windround: a town's clocks, wound so that none stands still."""
