@@ -47,13 +47,55 @@ def kept_standings(town):
     return kept
 
 
+def lost_ranks(town):
+    """Every standing from which no way goes on for ever, with the most days until it is stuck."""
+    rows = all_rows(town)
+    ahead = {
+        standing: [after(town, standing, row) for row in rows if allowed(town, standing, row)]
+        for standing in all_standings(town)
+    }
+    ranks, rank, found = {}, 0, True
+    while found:
+        found = [one for one in ahead if one not in ranks and all(other in ranks for other in ahead[one])]
+        ranks.update({one: rank for one in found})
+        rank += 1
+    return ranks
+
+
+def no_worse(one, other):
+    return one[0] == other[0] and all(left >= right for left, right in zip(one[1], other[1]))
+
+
+def shuts(town, paper):
+    """Whether a paper shuts a town out, each choice held against each tuple of the paper."""
+    spans, hands = town
+    for day, lefts, rank in paper:
+        if day not in range(len(hands)) or rank < 0:
+            return False
+        if any(left not in range(1, span + 1) for left, span in zip(lefts, spans)):
+            return False
+    if not any(no_worse(entry, (0, tuple(spans))) for entry in paper):
+        return False
+    for entry in paper:
+        for row in all_rows(town):
+            if allowed(town, entry[:2], row):
+                other = after(town, entry[:2], row)
+                if not any(less[2] < entry[2] and no_worse(less, other) for less in paper):
+                    return False
+    return True
+
+
+def row_at(plan, day):
+    first, again = plan
+    return first[day] if day < len(first) else again[(day - len(first)) % len(again)]
+
+
 def keeps_days(town, plan, days):
     """Whether a plan winds each clock in time over so many days, told by the days of the windings alone."""
     spans, hands = town
-    first, again = plan
     last = [-1] * len(spans)
     for day in range(days):
-        row = first[day] if day < len(first) else again[(day - len(first)) % len(again)]
+        row = row_at(plan, day)
         if list(row) != sorted(set(row)) or len(row) > hands[day % len(hands)]:
             return False
         if any(clock not in range(len(spans)) for clock in row):

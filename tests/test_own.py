@@ -3,15 +3,22 @@
 import copy
 import unittest
 
+from windround.carry import carried_on, carried_out, joined_plan, joined_town, left_out, shared_out
 from windround.days import begun, choices, gone, is_stuck, wound
 from windround.errors import NoDay
+from windround.even import chain_plan, clash, days_of, even_plan, is_even, row_on, rounded
 from windround.order import no_tighter, no_worse
+from windround.papers import paper_of, shuts_out
 from windround.plans import can_keep, keeps, plan_of
+from windround.shares import share, shortage, supply
 
 TOWN = ([2, 4, 5], [1, 1, 2])
 STANDING = (2, (1, 3, 4))
 ROWS = [[0, 2], [1], [0]]
 PLAN = ([[0]], [[1], [0, 2], [0]])
+OTHER_PLAN = ([[], [0], []], [[1], [], [0], [0, 1]])
+PAPER = [(0, (2, 2, 2), 1), (0, (2, 1, 1), 0), (0, (1, 2, 1), 0), (0, (1, 1, 2), 0)]
+EVEN = [(0, 1, 4), (0, 0, 2), (1, 2, 3), (0, 3, 4)]
 
 CALLS = [
     (begun, (TOWN,)),
@@ -29,6 +36,39 @@ CALLS = [
     (plan_of, (([3, 3, 3, 3, 4, 6], [2]),)),
     (plan_of, (([2, 3, 12], [1]),)),
     (can_keep, (TOWN, STANDING)),
+    (paper_of, (TOWN,)),
+    (paper_of, (([2, 3, 12], [1]),)),
+    (paper_of, (([1], [0]),)),
+    (shuts_out, (([2, 2, 2], [1]), PAPER)),
+    (shuts_out, (([2, 2, 2], [1]), PAPER[::-1] + [(0, (2, 2, 2), -1)])),
+    (share, ([4, 12, 6, 6],)),
+    (supply, ([4, 0, 2],)),
+    (shortage, (([2, 2, 3], [1, 1]),)),
+    (shortage, (TOWN,)),
+    (clash, (4, 5, 6, 7)),
+    (is_even, (([4, 2, 3, 5], [2]), EVEN)),
+    (is_even, (([4, 2, 2, 5], [2]), EVEN)),
+    (chain_plan, ([8, 2, 4, 8], 1)),
+    (chain_plan, ([1, 1, 1], 3)),
+    (rounded, ([7, 3, 12, 6], 3)),
+    (rounded, ([5, 5], 5)),
+    (even_plan, (([6, 7, 13, 3], [1]),)),
+    (even_plan, (([1], [1]),)),
+    (row_on, (EVEN, 5)),
+    (days_of, (EVEN,)),
+    (days_of, ([(0, 0, 1)],)),
+    (shared_out, (TOWN, 1, 3)),
+    (shared_out, (TOWN, 0, 1)),
+    (carried_out, (TOWN, PLAN, 0, 2)),
+    (carried_out, (TOWN, PLAN, 2, 1)),
+    (carried_out, (([5, 2], [1]), ([], [[1]]), 0, 3)),
+    (left_out, (TOWN, 1)),
+    (carried_on, (TOWN, PLAN, 1)),
+    (carried_on, (TOWN, PLAN, 2)),
+    (joined_town, (TOWN, ([3, 3], [1, 0]))),
+    (joined_town, (([3], [1]), ([3], [1]))),
+    (joined_plan, (TOWN, PLAN, OTHER_PLAN)),
+    (joined_plan, (TOWN, PLAN, ([], [[]]))),
 ]
 
 
@@ -38,6 +78,16 @@ def lists_in(value):
         inner = [found for part in value for found in lists_in(part)]
         return inner + [value] if isinstance(value, list) else inner
     return []
+
+
+def numbers_in(value):
+    """Everything within a value that is no list or tuple."""
+    if isinstance(value, (list, tuple)):
+        return [found for part in value for found in numbers_in(part)]
+    return [value]
+
+
+TRUTHS = (is_stuck, no_worse, no_tighter, keeps, can_keep, shuts_out, is_even)
 
 
 class Own(unittest.TestCase):
@@ -56,6 +106,20 @@ class Own(unittest.TestCase):
         with self.assertRaises(NoDay):
             wound(given[0], given[1], [2, 0])
         self.assertEqual(given, (TOWN, STANDING, rows))
+
+    def test_one_list_handed_in_at_two_places(self):
+        row = [0]
+        town = ([2, 2], [1])
+        for told in (
+            joined_plan(town, ([], [row, row]), ([], [row])),
+            carried_out(town, ([row, row], [row, row]), 1, 2),
+            carried_on(town, ([row, row], [row, row]), 1),
+            joined_town(town, town),
+        ):
+            found = lists_in(told)
+            self.assertEqual(len({id(one) for one in found}), len(found))
+            self.assertFalse({id(one) for one in found} & {id(row), id(town[0]), id(town[1])})
+        self.assertEqual((row, town), ([0], ([2, 2], [1])))
 
     def test_the_same_is_told_each_time(self):
         for call, given in CALLS:
@@ -95,8 +159,11 @@ class Own(unittest.TestCase):
 
     def test_truths_are_truths_and_numbers_are_none(self):
         for call, given in CALLS:
-            if call in (is_stuck, no_worse, no_tighter, keeps, can_keep):
-                self.assertIs(type(call(*given)), bool, call)
+            told = call(*given)
+            if call in TRUTHS:
+                self.assertIs(type(told), bool, call)
+            elif told is not None:
+                self.assertEqual({type(number) for number in numbers_in(told)} - {int}, set(), call)
         for row in choices(TOWN, STANDING) + plan_of(TOWN)[0] + plan_of(TOWN)[1]:
             self.assertIs(type(row), list)
             self.assertEqual({type(clock) for clock in row} - {int}, set())

@@ -36,15 +36,20 @@ def full_rows(town, standing):
     return sorted(full, key=lambda row: sorted([lefts[clock] for clock in row]))
 
 
-def endless(town, standing):
-    """A way without end from a standing, as rows ahead of a round and the round; None where there is none."""
+def looked_through(town, standing):
+    """A way without end from a standing, or None, and the list of the standings that were found to have none.
+
+    The way is told as a plan. In the list each standing comes behind all those that its full rows lead to.
+    """
     path = [standing]
     ways = [full_rows(town, standing)]
     # Where a standing stands on the path; None once every way from it is known to end.
     places = {standing: 0}
+    lost = []
     while path:
         if not ways[-1]:
-            places[path.pop()] = None
+            lost.append(path.pop())
+            places[lost[-1]] = None
             ways.pop()
             continue
         ahead = behind(town, path[-1], ways[-1][0])
@@ -56,15 +61,15 @@ def endless(town, standing):
             ways[-1].pop(0)
         else:
             rows = [way[0] for way in ways]
-            return (rows[:places[ahead]], rows[places[ahead]:])
-    return None
+            return ((rows[:places[ahead]], rows[places[ahead]:]), lost)
+    return (None, lost)
 
 
 def plan_of(town):
     """A plan that keeps the town, or None where none does."""
-    return endless(town, begun(town))
+    return looked_through(town, begun(town))[0]
 
 
 def can_keep(town, standing):
     """Whether some row of rows without end goes on from a standing."""
-    return endless(town, standing) is not None
+    return looked_through(town, standing)[0] is not None
