@@ -1,5 +1,6 @@
 """A second telling of the document, slow and plain, that shares no line with the program."""
 
+import fractions
 import itertools
 
 
@@ -60,6 +61,68 @@ def lost_ranks(town):
         ranks.update({one: rank for one in found})
         rank += 1
     return ranks
+
+
+def kept_steps(town):
+    """For each standing that can be come to and from which the town can be kept, its rows to such ones."""
+    kept = kept_standings(town)
+    rows = all_rows(town)
+    steps = {}
+    waiting = [(0, tuple(town[0]))] if (0, tuple(town[0])) in kept else []
+    while waiting:
+        standing = waiting.pop()
+        if standing not in steps:
+            found = [(row, after(town, standing, row)) for row in rows if allowed(town, standing, row)]
+            steps[standing] = [(row, other) for row, other in found if other in kept]
+            waiting += [other for row, other in steps[standing]]
+    return steps
+
+
+def least_mean(town, costs):
+    """The least cost a day, by Karp's way: of all walks of so many steps as there are standings, and of all shorter."""
+    steps = kept_steps(town)
+    if not steps:
+        return None
+    walks = [{(0, tuple(town[0])): 0}]
+    for turn in steps:
+        longer = {}
+        for standing, cost in walks[-1].items():
+            for row, other in steps[standing]:
+                new = cost + sum(costs[clock] for clock in row)
+                longer[other] = min(new, longer.get(other, new))
+        walks.append(longer)
+    most = len(steps)
+    return min(
+        max(
+            fractions.Fraction(walks[most][standing] - walks[many][standing], most - many)
+            for many in range(most)
+            if standing in walks[many]
+        )
+        for standing in walks[most]
+    )
+
+
+def holding(town, costs, fraction, prices):
+    """Whether prices hold, each step held against the fraction."""
+    return holding_in(kept_steps(town), costs, fraction, prices)
+
+
+def holding_in(steps, costs, fraction, prices):
+    if len(prices) != len(steps) or {standing for standing, price in prices} != set(steps):
+        return False
+    price = dict(prices)
+    above, below = fraction
+    return all(
+        price[standing] - price[other] + above <= below * sum(costs[clock] for clock in row)
+        for standing in steps
+        for row, other in steps[standing]
+    )
+
+
+def mends(spans, size):
+    """All lists of spans longer by so many days in all, in the order of lists."""
+    more = [extra for extra in itertools.product(range(size + 1), repeat=len(spans)) if sum(extra) == size]
+    return sorted([span + days for span, days in zip(spans, extra)] for extra in more)
 
 
 def no_worse(one, other):

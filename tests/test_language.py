@@ -33,6 +33,10 @@ WALKED = ["zip", "enumerate", "reversed", "range"]
 WALKERS = ["list", "tuple", "dict", "sorted", "sum", "any", "all", "enumerate", "zip", "min", "max"]
 
 
+CHANGING = ["append", "clear", "extend", "insert", "pop", "remove", "reverse", "setdefault", "update"]
+PYTHONS_OWN = [name for kind in (str, int, list, dict, set, bytes) for name in dir(kind) if name not in DUNDERS]
+
+
 def files():
     return sorted(PACKAGE.glob("*.py"))
 
@@ -53,6 +57,15 @@ def bound_names(node):
         return [node.arg]
     if isinstance(node, ast.Name) and isinstance(node.ctx, ast.Store):
         return [node.id]
+    return []
+
+
+def changed_names(node):
+    """What a node changes: by an index, or by a method that changes."""
+    if isinstance(node, ast.Subscript) and isinstance(node.ctx, ast.Store):
+        return [ast.unparse(node.value)]
+    if isinstance(node, ast.Call) and isinstance(node.func, ast.Attribute) and node.func.attr in CHANGING:
+        return [ast.unparse(node.func.value)]
     return []
 
 
@@ -167,6 +180,23 @@ class Language(unittest.TestCase):
                     for sign, other in zip(node.ops, node.comparators):
                         if isinstance(sign, (ast.Is, ast.IsNot)):
                             self.assertIsInstance(other, ast.Constant, (path.name, node.lineno))
+
+    def test_what_a_loop_walks_is_not_changed_in_it(self):
+        for place, node in self.each_node():
+            if isinstance(node, ast.For):
+                walked = {ast.unparse(part) for part in ast.walk(node.iter) if isinstance(part, (ast.Name, ast.Attribute))}
+                changed = {name for part in node.body for inner in ast.walk(part) for name in changed_names(inner)}
+                self.assertFalse(walked & changed, place)
+
+    def test_no_name_is_a_method_and_a_value(self):
+        methods, values = set(), set()
+        for place, node in self.each_node():
+            if isinstance(node, ast.ClassDef):
+                methods |= {part.name for part in node.body if isinstance(part, ast.FunctionDef)}
+            if isinstance(node, ast.Attribute) and isinstance(node.ctx, ast.Store):
+                values.add(node.attr)
+        self.assertFalse(methods & values)
+        self.assertFalse((methods | values) & set(PYTHONS_OWN))
 
     def test_handlers_take_named_errors(self):
         for place, node in self.each_node():

@@ -4,13 +4,16 @@ import copy
 import unittest
 
 from windround.carry import carried_on, carried_out, joined_plan, joined_town, left_out, shared_out
+from windround.costs import cost_of, least_cost, prices_hold
 from windround.days import begun, choices, gone, is_stuck, wound
-from windround.errors import NoDay
+from windround.errors import NoDay, NoHands
 from windround.even import chain_plan, clash, days_of, even_plan, is_even, row_on, rounded
+from windround.mends import least_mend, room_beside
 from windround.order import no_tighter, no_worse
 from windround.papers import paper_of, shuts_out
 from windround.plans import can_keep, keeps, plan_of
 from windround.shares import share, shortage, supply
+from windround.texts import read_plan, read_town, show_plan, show_town
 
 TOWN = ([2, 4, 5], [1, 1, 2])
 STANDING = (2, (1, 3, 4))
@@ -19,6 +22,7 @@ PLAN = ([[0]], [[1], [0, 2], [0]])
 OTHER_PLAN = ([[], [0], []], [[1], [], [0], [0, 1]])
 PAPER = [(0, (2, 2, 2), 1), (0, (2, 1, 1), 0), (0, (1, 2, 1), 0), (0, (1, 1, 2), 0)]
 EVEN = [(0, 1, 4), (0, 0, 2), (1, 2, 3), (0, 3, 4)]
+PRICES = [((0, (1,)), 14), ((0, (2,)), 7), ((0, (3,)), 0)]
 
 CALLS = [
     (begun, (TOWN,)),
@@ -69,6 +73,27 @@ CALLS = [
     (joined_town, (([3], [1]), ([3], [1]))),
     (joined_plan, (TOWN, PLAN, OTHER_PLAN)),
     (joined_plan, (TOWN, PLAN, ([], [[]]))),
+    (cost_of, (PLAN, [3, 0, 10 ** 20 - 1])),
+    (least_cost, (TOWN, [3, 1, 10 ** 20 - 1])),
+    (least_cost, (([3, 5, 7], [1, 0, 1, 1, 1]), [1, 0, 4])),
+    (least_cost, (([12], [1, 0, 0]), [0])),
+    (least_cost, (([6, 6, 6], [3]), [1, 1, 1])),
+    (least_cost, (([2, 3, 12], [1]), [1, 1, 1])),
+    (prices_hold, (([3], [1]), [7], (7, 3), PRICES)),
+    (prices_hold, (([3], [1]), [7], (5, 2), PRICES[::-1])),
+    (least_mend, (TOWN,)),
+    (least_mend, (([2, 2, 2], [1]),)),
+    (least_mend, (([1], [0, 0, 1]),)),
+    (least_mend, (([4, 4, 4, 5, 5], [1]),)),
+    (room_beside, (TOWN, 12)),
+    (room_beside, (([2, 2], [1]), 12)),
+    (show_town, (TOWN,)),
+    (show_plan, (PLAN,)),
+    (show_plan, (([], [[]]),)),
+    (read_town, ("2 4 5 | 1 1 2",)),
+    (read_town, ("3 | 3",)),
+    (read_plan, ("0 - 0 - | 1 1 0,2 1",)),
+    (read_plan, (". | - -",)),
 ]
 
 
@@ -87,7 +112,8 @@ def numbers_in(value):
     return [value]
 
 
-TRUTHS = (is_stuck, no_worse, no_tighter, keeps, can_keep, shuts_out, is_even)
+TRUTHS = (is_stuck, no_worse, no_tighter, keeps, can_keep, shuts_out, is_even, prices_hold)
+LINES = (show_town, show_plan)
 
 
 class Own(unittest.TestCase):
@@ -106,6 +132,10 @@ class Own(unittest.TestCase):
         with self.assertRaises(NoDay):
             wound(given[0], given[1], [2, 0])
         self.assertEqual(given, (TOWN, STANDING, rows))
+        town = ([3, 4], [0, 0])
+        with self.assertRaises(NoHands):
+            least_mend(town)
+        self.assertEqual(town, ([3, 4], [0, 0]))
 
     def test_one_list_handed_in_at_two_places(self):
         row = [0]
@@ -115,6 +145,9 @@ class Own(unittest.TestCase):
             carried_out(town, ([row, row], [row, row]), 1, 2),
             carried_on(town, ([row, row], [row, row]), 1),
             joined_town(town, town),
+            least_cost((town[0], town[0]), town[0]),
+            least_mend((town[0], town[0])),
+            least_mend(([1, 2, 2], town[1])),
         ):
             found = lists_in(told)
             self.assertEqual(len({id(one) for one in found}), len(found))
@@ -162,6 +195,8 @@ class Own(unittest.TestCase):
             told = call(*given)
             if call in TRUTHS:
                 self.assertIs(type(told), bool, call)
+            elif call in LINES:
+                self.assertIs(type(told), str, call)
             elif told is not None:
                 self.assertEqual({type(number) for number in numbers_in(told)} - {int}, set(), call)
         for row in choices(TOWN, STANDING) + plan_of(TOWN)[0] + plan_of(TOWN)[1]:

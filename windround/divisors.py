@@ -30,7 +30,7 @@ def least_multiple(numbers):
     return found
 
 
-def fraction(above, below):
+def lowest_terms(above, below):
     """A fraction in lowest terms, of a number above from 0 on and one below from 1 on."""
     divisor = greatest_divisor(above, below)
     return (above // divisor, below // divisor)

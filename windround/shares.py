@@ -1,6 +1,6 @@
 """Shares: how many windings a day the clocks want at least, and how many there are."""
 
-from windround.divisors import fraction, least_multiple
+from windround.divisors import least_multiple, lowest_terms
 
 
 def wanted_in(spans, days):
@@ -11,12 +11,12 @@ def wanted_in(spans, days):
 def share(spans):
     """The sum of 1 / span over the clocks, a fraction."""
     days = least_multiple(spans)
-    return fraction(wanted_in(spans, days), days)
+    return lowest_terms(wanted_in(spans, days), days)
 
 
 def supply(hands):
     """How many windings there are a day, a fraction."""
-    return fraction(sum(hands), len(hands))
+    return lowest_terms(sum(hands), len(hands))
 
 
 def shortage(town):
